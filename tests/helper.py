@@ -1,0 +1,142 @@
+"""What the tests share: wrong objects of each kind, and how every function is asked with them."""
+
+import copy
+import itertools
+import unittest
+
+from topups.errors import InvalidContent, InvalidText, PotError
+
+GREAT = 123456789012345678901234567890
+
+
+def nested(depth):
+    thing = []
+    for _ in range(depth):
+        thing = [thing]
+    return thing
+
+
+def no_lists():
+    """Objects that are no list and no tuple."""
+    return [
+        0, 1, -1, GREAT, -GREAT, True, False, "", "1", "1 2", "[1, 2]", "\n", None,
+        PotError("1"), InvalidContent("1 2"), InvalidText(1), {}, {"0": 1}, {"a": [1, 2], "b": (1, 2)},
+    ]
+
+
+def wrong_lists_of_amounts():
+    """What is neither a content nor a list of numbers or of weights."""
+    return no_lists() + [
+        [], (), (1,), (1, 2), (0, 1), [-1], [-1, 2], [1, -1], [1, 0, -GREAT], [0], [0, 0, 0], [0] * 8,
+        [True], [False, 1], [1, True], [1, None], ["1"], [1, "2"], [[1]], [[1, 2]], [(1,)], [1, (2,)], [1, {}],
+        [1, PotError("2")], [1] * 9, [0] * 8 + [1], [1] * 4000, nested(19), [1, nested(18)],
+    ]
+
+
+def wrong_contents():
+    return wrong_lists_of_amounts() + [
+        [2], [GREAT], [2, 4], [0, 2], [6, 10, 4], [3, 0, 0], [2 * GREAT, 4 * GREAT, 0], [7] * 8,
+    ]
+
+
+def wrong_keeps():
+    """Objects that are no kept share."""
+    return no_lists() + [
+        (), (1,), (1, 2, 3), [], [1, 2], [3, 4], (2, 4), (50, 100), (33, 99), (0, 1), (0, 2), (1, 1), (2, 1), (3, 2),
+        (100, 100), (1, 101), (100, 101), (1, GREAT), (GREAT, GREAT + 1), (-1, 2), (1, -2), (-2, -1), (-1, 1),
+        (True, 2), (False, 1), (1, True), ("1", 2), (1, "2"), (1, None), (None, 2), ((1, 2), 3), (1, (2,)),
+        ((1, 2), (3, 4)), [(1, 2)], ([1], 2), (1, {}), (1, PotError("2")),
+    ]
+
+
+def wrong_lists_of_keeps():
+    lists = [[kept] for kept in wrong_keeps()] + [[(1, 2), kept] for kept in wrong_keeps()]
+    return no_lists() + lists + [(), (1, 2), ((1, 2),), ((1, 2), (3, 4)), [(1, 2)] * 61, [(1, 2)] * 4000]
+
+
+def wrong_rows(liquids):
+    """Objects that are no row for a content of so many liquids."""
+    return no_lists() + [
+        (), (0,), (0, 0), [liquids], [0, liquids], [liquids, 0], [-1], [0, -1], [GREAT], [-GREAT], [True], [False],
+        [0, False], [None], ["0"], [0, "0"], [[0]], [[]], [(0,)], [0, {}], [PotError("0")], [0] * 61, [0] * 4000,
+        [0] * 59 + [liquids], nested(19),
+    ]
+
+
+def wrong_liquids(liquids):
+    return [-1, -liquids, liquids, liquids + 1, GREAT, -GREAT, True, False]
+
+
+class PotTest(unittest.TestCase):
+    """Tests that ask a function by position and by name, and look at what it does to its arguments."""
+
+    def assert_fails(self, error, function, *args, **named):
+        with self.assertRaises(PotError) as caught:
+            function(*args, **named)
+        self.assertIs(type(caught.exception), error)
+
+    def assert_fails_both_ways(self, error, function, given):
+        before = repr(given)
+        self.assert_fails(error, function, *given.values())
+        self.assert_fails(error, function, **given)
+        self.assertEqual(repr(given), before)
+
+    def assert_wrong_inputs(self, function, valid, wrong):
+        """valid: by each argument's name, in the order of the signature, a value; wrong: (error, values) likewise."""
+        self.assertEqual(list(valid), list(wrong))
+        for name, (error, values) in wrong.items():
+            for value in values:
+                with self.subTest(function=function.__name__, name=name, value=value):
+                    self.assert_fails_both_ways(error, function, {**copy.deepcopy(valid), name: value})
+        self.assert_first_decides(function, valid, wrong)
+
+    def assert_first_decides(self, function, valid, wrong):
+        for count in range(2, len(wrong) + 1):
+            for names in itertools.combinations(wrong, count):
+                few = [wrong[name][1][:3] + wrong[name][1][-3:] for name in names]
+                for values in itertools.product(*few):
+                    given = {**copy.deepcopy(valid), **dict(zip(names, values))}
+                    with self.subTest(function=function.__name__, given=given):
+                        self.assert_fails_both_ways(wrong[names[0]][0], function, given)
+
+    def assert_gives(self, function, given, expected):
+        """The result is right by position and by name, of the right kinds, new each time; arguments are as before."""
+        before = given
+        given = copy.deepcopy(before)
+        first = function(*given.values())
+        second = function(**given)
+        self.assert_same(first, expected)
+        self.assert_same(second, expected)
+        self.assert_new_lists(first, second, list(given.values()))
+        spoil(first)
+        self.assert_same(second, expected)
+        self.assert_same(given, before)
+        self.assert_same(function(**given), expected)
+        spoil(given)
+        self.assert_same(second, expected)
+
+    def assert_same(self, found, expected):
+        # Python takes True for 1 and shows both as equal: the texts tell them apart.
+        self.assertEqual(found, expected)
+        self.assertEqual(repr(found), repr(expected))
+
+    def assert_new_lists(self, *things):
+        returned = [part for thing in things[:-1] for part in lists_in(thing)]
+        self.assertEqual(len({id(part) for part in returned}), len(returned))
+        passed = {id(part) for part in lists_in(things[-1])}
+        self.assertFalse(passed & {id(part) for part in returned})
+
+
+def lists_in(thing):
+    """All lists within a thing, itself included, one for each place where it stands."""
+    if isinstance(thing, dict):
+        return lists_in(list(thing.values()))
+    if not isinstance(thing, (list, tuple)):
+        return []
+    found = [thing] if isinstance(thing, list) else []
+    return found + [part for inner in thing for part in lists_in(inner)]
+
+
+def spoil(thing):
+    for part in lists_in(thing):
+        part.append("spoiled")

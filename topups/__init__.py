@@ -1,0 +1,1 @@
+"""A pot that is topped up again and again, and the history that its content tells."""
