@@ -3,6 +3,7 @@
 import copy
 import itertools
 import unittest
+from math import gcd
 
 from topups.errors import InvalidContent, InvalidText, PotError
 
@@ -65,6 +66,79 @@ def wrong_rows(liquids):
 
 def wrong_liquids(liquids):
     return [-1, -liquids, liquids, liquids + 1, GREAT, -GREAT, True, False]
+
+
+def wrong_numbers(most):
+    """Integers and booleans that are no numbers from 0 to most."""
+    return [-1, -2, most + 1, most + 2, GREAT, -GREAT, True, False]
+
+
+def wrong_fractions():
+    """Objects that are no fraction."""
+    return no_lists() + [
+        (), (1,), (1, 2, 3), [], [1, 2], [0, 1], (2, 4), (0, 2), (-2, 4), (3, 3), (GREAT, GREAT), (0, 0), (1, 0),
+        (-1, 0), (0, -1), (1, -1), (1, -2), (-1, -2), (1, -GREAT), (True, 2), (False, 1), (1, True), (0, True),
+        ("1", 2), (1, "2"), (None, 1), (1, None), ((1, 2), 3), (1, (2,)), ([1], 2), (1, {}), [(1, 2)], ((1, 2),),
+        (1, PotError("2")),
+    ]
+
+
+def wrong_shares():
+    """Objects that are no fraction from 0 to 1."""
+    return wrong_fractions() + [(-1, 1), (-1, 2), (2, 1), (3, 2), (GREAT, 1), (-GREAT, 1), (GREAT + 1, GREAT)]
+
+
+def wrong_strengths():
+    """Objects that are no list of strengths for any number of liquids."""
+    return no_lists() + [
+        [], (), (1,), (1, 2), (0, 1), [True], [False, 1], [1, True], [1, None], ["1"], [1, "2"], [[1]], [[1, 2]],
+        [(1,)], [1, (2,)], [1, {}], [1, PotError("2")], [1, (1, 2)], [1] * 9, list(range(9)), [1] * 4000, nested(19),
+    ]
+
+
+def wrong_menus():
+    """Objects that are no menu."""
+    lists = [[kept] for kept in wrong_keeps()] + [[(1, 2), kept] for kept in wrong_keeps()]
+    return no_lists() + lists + [
+        [], (), (1, 2), ((1, 2),), ((1, 2), (1, 3)), [(1, 2), (1, 2)], [(1, 2), (1, 3), (1, 2)],
+        [(1, 3), (2, 3), (3, 4), (2, 3)], [(1, 2), (1, 3), (1, 4), (1, 5), (1, 6)], [(1, 2)] * 5, [(1, 2)] * 4000,
+    ]
+
+
+def all_contents(count, most):
+    """All contents of so many liquids that have a bottom of at most so much."""
+    lists = itertools.product(range(most + 1), repeat=count)
+    return [list(numbers) for numbers in lists if sum(numbers) <= most and gcd(*numbers) == 1]
+
+
+def amounts_behind(amounts, kept, liquid):
+    """Without dividing: the bottom is multiplied by that of the kept share."""
+    stays, whole = kept
+    poured = (whole - stays) * sum(amounts)
+    return [stays * amount + (poured if at == liquid else 0) for at, amount in enumerate(amounts)]
+
+
+def told_by_menus(count, menus):
+    """From going through all rows: for each content, as a tuple, the ascending list of its (start, steps)."""
+    pots = [(start, [], [int(liquid == start) for liquid in range(count)]) for start in range(count)]
+    for menu in menus:
+        pots = [
+            (start, steps + [(liquid, index)], amounts_behind(amounts, kept, liquid))
+            for start, steps, amounts in pots for liquid in range(count) for index, kept in enumerate(menu)
+        ]
+    told = {}
+    for start, steps, amounts in pots:
+        divisor = gcd(*amounts)
+        told.setdefault(tuple(amount // divisor for amount in amounts), []).append((start, steps))
+    return told
+
+
+def told_along(count, keeps):
+    """The same by one kept share for each top-up: for each content the ascending list of its histories."""
+    told = told_by_menus(count, [[kept] for kept in keeps])
+    return {
+        content: [(start, [liquid for liquid, _ in steps]) for start, steps in ways] for content, ways in told.items()
+    }
 
 
 class PotTest(unittest.TestCase):

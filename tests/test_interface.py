@@ -13,6 +13,18 @@ INTERFACE = {
         "topped": ["content", "kept", "liquid"], "topped_row": ["content", "kept", "row"],
         "contents_along": ["content", "kept", "row"], "topped_by": ["content", "keeps", "row"],
     },
+    "topups.histories": {
+        "history_of": ["content", "kept"], "all_histories": ["content", "kept", "number"],
+        "stuck_at": ["content", "kept"], "histories_along": ["content", "keeps"], "is_one_left": ["keeps"],
+    },
+    "topups.strengths": {
+        "strength_of": ["content", "strengths"], "strengths_differ": ["strengths", "kept"],
+        "histories_of_strength": ["value", "strengths", "kept", "number"],
+        "uses_of_share": ["share", "kept", "number"],
+    },
+    "topups.menus": {
+        "histories_by_menu": ["content", "menu", "number"], "count_by_menu": ["content", "menu", "number"],
+    },
 }
 
 

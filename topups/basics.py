@@ -1,8 +1,8 @@
-"""What several files need: common divisors, and which arguments are valid."""
+"""What several files need: common divisors, lowest terms, and which arguments are valid."""
 
 from math import gcd
 
-from topups.errors import InvalidKept, InvalidLiquid, InvalidNumber, InvalidRow
+from topups.errors import InvalidFraction, InvalidKept, InvalidLiquid, InvalidNumber, InvalidRow
 
 MOST_LIQUIDS = 8
 MOST_TOP_UPS = 60
@@ -18,13 +18,19 @@ def is_within(thing, least, most):
     return is_integer(thing) and least <= thing <= most
 
 
-def is_kept(thing):
+def is_pair_in_lowest_terms(thing):
     if type(thing) != tuple or len(thing) != 2:
         return False
-    stays, whole = thing
-    if not is_integer(stays) or not is_integer(whole):
-        return False
-    return 1 <= stays < whole <= MOST_PARTS and gcd(stays, whole) == 1
+    one, other = thing
+    return is_integer(one) and is_integer(other) and gcd(one, other) == 1
+
+
+def is_fraction(thing):
+    return is_pair_in_lowest_terms(thing) and thing[1] >= 1
+
+
+def is_kept(thing):
+    return is_pair_in_lowest_terms(thing) and 1 <= thing[0] < thing[1] <= MOST_PARTS
 
 
 def is_list_of_keeps(thing):
@@ -37,6 +43,17 @@ def is_row(thing, liquids):
     if type(thing) != list or len(thing) > MOST_TOP_UPS:
         return False
     return all(is_within(liquid, 0, liquids - 1) for liquid in thing)
+
+
+def check_fraction(fraction):
+    if not is_fraction(fraction):
+        raise InvalidFraction("a tuple (top, bottom) in lowest terms with bottom >= 1 is needed")
+
+
+def check_share(share):
+    check_fraction(share)
+    if not 0 <= share[0] <= share[1]:
+        raise InvalidFraction("a fraction from 0 to 1 is needed")
 
 
 def check_kept(kept):
@@ -62,6 +79,11 @@ def check_liquid(liquid, liquids):
 def check_number(number, least, most):
     if not is_within(number, least, most):
         raise InvalidNumber("an integer within its limits is needed")
+
+
+def lowest_terms(top, bottom):
+    divisor = gcd(top, bottom)
+    return (top // divisor, bottom // divisor)
 
 
 def common_divisor(numbers):

@@ -1,8 +1,10 @@
 """Contents: lists of integers that tell the shares of the liquids in a pot."""
 
-from math import gcd, lcm
+from math import lcm
 
-from topups.basics import MOST_LIQUIDS, check_liquid, check_number, common_divisor, is_integer, without_divisor
+from topups.basics import (
+    MOST_LIQUIDS, check_liquid, check_number, common_divisor, is_integer, lowest_terms, without_divisor,
+)
 from topups.errors import InvalidContent, InvalidNumbers
 
 
@@ -21,10 +23,7 @@ def share_of(content, liquid):
     """The share of a liquid, as a fraction."""
     check_content(content)
     check_liquid(liquid, len(content))
-    top = content[liquid]
-    bottom = sum(content)
-    divisor = gcd(top, bottom)
-    return (top // divisor, bottom // divisor)
+    return lowest_terms(content[liquid], sum(content))
 
 
 def pure_content(count, liquid):
