@@ -3,11 +3,13 @@
 import copy
 import itertools
 import unittest
-from math import gcd
+from fractions import Fraction
+from math import gcd, lcm
 
 from topups.errors import InvalidContent, InvalidText, PotError
 
 GREAT = 123456789012345678901234567890
+MOST_BOTTOM = 10 ** 6
 
 
 def nested(depth):
@@ -64,6 +66,11 @@ def wrong_rows(liquids):
     ]
 
 
+def wrong_endless_rows(liquids):
+    """Objects that are no row of one or more of so many liquids."""
+    return [[]] + wrong_rows(liquids)
+
+
 def wrong_liquids(liquids):
     return [-1, -liquids, liquids, liquids + 1, GREAT, -GREAT, True, False]
 
@@ -71,6 +78,10 @@ def wrong_liquids(liquids):
 def wrong_numbers(most):
     """Integers and booleans that are no numbers from 0 to most."""
     return [-1, -2, most + 1, most + 2, GREAT, -GREAT, True, False]
+
+
+def wrong_indices(most):
+    return wrong_numbers(most) + [10 ** 60 - 1, -10 ** 60 + 1]
 
 
 def wrong_fractions():
@@ -88,6 +99,13 @@ def wrong_shares():
     return wrong_fractions() + [(-1, 1), (-1, 2), (2, 1), (3, 2), (GREAT, 1), (-GREAT, 1), (GREAT + 1, GREAT)]
 
 
+def wrong_shares_to_reach():
+    """Objects that are no fraction from 0 to 1 with a bottom of at most 10 ** 6."""
+    return wrong_shares() + [
+        (1, MOST_BOTTOM + 1), (MOST_BOTTOM, MOST_BOTTOM + 1), (1, 2 * MOST_BOTTOM), (1, GREAT), (GREAT, GREAT + 1),
+    ]
+
+
 def wrong_strengths():
     """Objects that are no list of strengths for any number of liquids."""
     return no_lists() + [
@@ -103,6 +121,24 @@ def wrong_menus():
         [], (), (1, 2), ((1, 2),), ((1, 2), (1, 3)), [(1, 2), (1, 2)], [(1, 2), (1, 3), (1, 2)],
         [(1, 3), (2, 3), (3, 4), (2, 3)], [(1, 2), (1, 3), (1, 4), (1, 5), (1, 6)], [(1, 2)] * 5, [(1, 2)] * 4000,
     ]
+
+
+def pair(number):
+    return (number.numerator, number.denominator)
+
+
+def pure(count, liquid):
+    return [int(at == liquid) for at in range(count)]
+
+
+def shares_of(content):
+    return [Fraction(amount, sum(content)) for amount in content]
+
+
+def content_of(shares):
+    """The content with these shares, by way of a common bottom."""
+    bottom = lcm(*[share.denominator for share in shares])
+    return [int(share * bottom) for share in shares]
 
 
 def all_contents(count, most):
@@ -165,9 +201,11 @@ class PotTest(unittest.TestCase):
         self.assert_first_decides(function, valid, wrong)
 
     def assert_first_decides(self, function, valid, wrong):
+        # Of many arguments there are many combinations: a few values of each will do.
+        some = 3 if len(wrong) < 6 else 1
         for count in range(2, len(wrong) + 1):
             for names in itertools.combinations(wrong, count):
-                few = [wrong[name][1][:3] + wrong[name][1][-3:] for name in names]
+                few = [wrong[name][1][:some] + wrong[name][1][-some:] for name in names]
                 for values in itertools.product(*few):
                     given = {**copy.deepcopy(valid), **dict(zip(names, values))}
                     with self.subTest(function=function.__name__, given=given):

@@ -6,7 +6,7 @@ from fractions import Fraction
 from math import gcd
 
 from tests.helper import (
-    GREAT, PotTest, all_contents, told_along, wrong_contents, wrong_keeps, wrong_lists_of_keeps, wrong_numbers,
+    GREAT, PotTest, all_contents, pure, told_along, wrong_contents, wrong_keeps, wrong_lists_of_keeps, wrong_numbers,
 )
 from topups.errors import InvalidContent, InvalidKept, InvalidNumber, TooMany
 from topups.histories import all_histories, histories_along, history_of, is_one_left, stuck_at
@@ -14,10 +14,6 @@ from topups.topping import topped_by, topped_row
 
 KEEPS = [(1, 2), (1, 3), (2, 3), (3, 4), (5, 6), (2, 5), (4, 9), (7, 10), (1, 100), (99, 100), (98, 99)]
 PARTS = [(k, k + 1) for k in range(1, 9)]
-
-
-def pure(count, liquid):
-    return [int(at == liquid) for at in range(count)]
 
 
 def behind_long(content, kept, row):

@@ -25,6 +25,24 @@ INTERFACE = {
     "topups.menus": {
         "histories_by_menu": ["content", "menu", "number"], "count_by_menu": ["content", "menu", "number"],
     },
+    "topups.endless": {
+        "limit_of": ["count", "row", "kept"], "limits_along": ["count", "row", "kept"],
+        "row_of_limit": ["content", "kept", "number"], "same_limit": ["row", "other"], "root_of": ["row"],
+        "distance_after": ["content", "row", "kept", "rounds"],
+        "rounds_within": ["content", "row", "kept", "fraction"],
+    },
+    "topups.reach": {
+        "fewest_at_most": ["content", "kept", "liquid", "fraction"],
+        "fewest_at_least": ["content", "kept", "liquid", "fraction"],
+        "reach_sets": ["kept", "low", "high", "number"],
+        "fewest_between": ["content", "kept", "liquid", "low", "high"],
+        "shows_between": ["content", "kept", "liquid", "low", "high", "thing"],
+    },
+    "topups.counts": {
+        "count_contents": ["count", "number"], "nth_content": ["count", "kept", "start", "number", "index"],
+        "content_index": ["content", "kept", "start", "number"],
+        "count_between": ["count", "kept", "start", "number", "liquid", "low", "high"],
+    },
 }
 
 

@@ -3,7 +3,7 @@
 import itertools
 import random
 
-from tests.helper import PotTest, all_contents, told_by_menus, wrong_contents, wrong_menus, wrong_numbers
+from tests.helper import PotTest, all_contents, pure, told_by_menus, wrong_contents, wrong_menus, wrong_numbers
 from topups.errors import InvalidContent, InvalidKept, InvalidNumber, TooMany
 from topups.histories import all_histories, histories_along
 from topups.menus import count_by_menu, histories_by_menu
@@ -15,10 +15,6 @@ MENUS = [
     [(1, 2), (2, 3), (3, 4), (4, 5)], [(5, 6), (2, 3), (4, 5), (1, 2)], [(1, 2), (1, 3), (1, 4), (1, 5)],
     [(7, 10), (11, 13), (98, 99), (2, 5)],
 ]
-
-
-def pure(count, liquid):
-    return [int(at == liquid) for at in range(count)]
 
 
 def content_behind(count, start, steps, menu):

@@ -5,7 +5,7 @@ import random
 from fractions import Fraction
 
 from tests.helper import (
-    GREAT, PotTest, wrong_contents, wrong_fractions, wrong_keeps, wrong_numbers, wrong_shares, wrong_strengths,
+    GREAT, PotTest, pair, wrong_contents, wrong_fractions, wrong_keeps, wrong_numbers, wrong_shares, wrong_strengths,
 )
 from topups.errors import InvalidContent, InvalidFraction, InvalidKept, InvalidNumber, InvalidStrengths, TooMany
 from topups.strengths import histories_of_strength, strength_of, strengths_differ, uses_of_share
@@ -17,10 +17,6 @@ CONTENTS = [
     [GREAT, GREAT + 1], [10 ** 30 - 1, 0, 8], [3 ** 200, 2 ** 300, 0, 5],
 ]
 MOST = 10 ** 30 - 1
-
-
-def pair(number):
-    return (number.numerator, number.denominator)
 
 
 def strength_behind(start, row, strengths, kept):

@@ -4,7 +4,8 @@ from fractions import Fraction
 from math import gcd
 
 from tests.helper import (
-    GREAT, PotTest, wrong_contents, wrong_keeps, wrong_liquids, wrong_lists_of_keeps, wrong_rows,
+    GREAT, PotTest, content_of, shares_of, wrong_contents, wrong_keeps, wrong_liquids, wrong_lists_of_keeps,
+    wrong_rows,
 )
 from topups.contents import is_content, mixed_content, pure_content
 from topups.errors import InvalidContent, InvalidKept, InvalidLiquid, InvalidRow
@@ -17,17 +18,9 @@ CONTENTS = [
 KEEPS = [(1, 2), (1, 3), (2, 3), (3, 4), (7, 10), (9, 10), (1, 100), (99, 100), (98, 99)]
 
 
-def content_of(shares):
-    """The content with these shares, by way of a common bottom."""
-    bottom = 1
-    for share in shares:
-        bottom = bottom * share.denominator // gcd(bottom, share.denominator)
-    return [int(share * bottom) for share in shares]
-
-
 def behind(content, keeps, row):
     """The contents behind 0, 1 .. all top-ups, reckoned by shares."""
-    shares = [Fraction(number, sum(content)) for number in content]
+    shares = shares_of(content)
     contents = [content_of(shares)]
     for (stays, whole), liquid in zip(keeps, row):
         shares = [share * stays / whole for share in shares]

@@ -1,12 +1,13 @@
-"""What several files need: common divisors, lowest terms, and which arguments are valid."""
+"""What several files need: divisors, powers, distances that shrink, and which arguments are valid."""
 
 from math import gcd
 
-from topups.errors import InvalidFraction, InvalidKept, InvalidLiquid, InvalidNumber, InvalidRow
+from topups.errors import InvalidFraction, InvalidIndex, InvalidKept, InvalidLiquid, InvalidNumber, InvalidRow
 
 MOST_LIQUIDS = 8
 MOST_TOP_UPS = 60
 MOST_PARTS = 100
+MOST_BOTTOM = 1000000
 
 
 def is_integer(thing):
@@ -56,6 +57,12 @@ def check_share(share):
         raise InvalidFraction("a fraction from 0 to 1 is needed")
 
 
+def check_share_to_reach(share):
+    check_share(share)
+    if share[1] > MOST_BOTTOM:
+        raise InvalidFraction("a fraction with a bottom of at most 10 ** 6 is needed")
+
+
 def check_kept(kept):
     if not is_kept(kept):
         raise InvalidKept("a kept share (a, b) in lowest terms with 1 <= a < b <= 100 is needed")
@@ -81,6 +88,11 @@ def check_number(number, least, most):
         raise InvalidNumber("an integer within its limits is needed")
 
 
+def check_index(index, most):
+    if not is_within(index, 0, most):
+        raise InvalidIndex("an index within its limits is needed")
+
+
 def lowest_terms(top, bottom):
     divisor = gcd(top, bottom)
     return (top // divisor, bottom // divisor)
@@ -96,3 +108,25 @@ def common_divisor(numbers):
 def without_divisor(numbers):
     divisor = common_divisor(numbers)
     return [number // divisor for number in numbers]
+
+
+def powers_of(base, number):
+    powers = [1]
+    for _ in range(number):
+        powers.append(powers[-1] * base)
+    return powers
+
+
+def steps_within(distance, factor, fraction):
+    """How often a distance is multiplied by a factor until it is at most a fraction; None for never."""
+    if distance[0] > 0 and factor[0] > 0 and fraction[0] == 0:
+        return None
+    # The distance divided by the fraction: at most 1 is wanted.
+    top = distance[0] * fraction[1]
+    bottom = distance[1] * fraction[0]
+    steps = 0
+    while top > bottom:
+        top *= factor[0]
+        bottom *= factor[1]
+        steps += 1
+    return steps

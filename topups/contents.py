@@ -56,6 +56,13 @@ def mixed_content(contents, weights):
     return without_divisor(mixture)
 
 
+def greatest_difference(first, second):
+    """Of the shares of all liquids in two contents, as (top, bottom), which may have a common divisor."""
+    bottom, other = sum(first), sum(second)
+    tops = [abs(amount * other - more * bottom) for amount, more in zip(first, second)]
+    return (max(tops), bottom * other)
+
+
 def is_list_of_amounts(thing):
     if type(thing) != list or not 1 <= len(thing) <= MOST_LIQUIDS:
         return False

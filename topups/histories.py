@@ -96,7 +96,7 @@ def undone_and_left(content, kept):
 
 
 def last_liquid(content, kept):
-    """The liquid of the last top-up, by R2, of a content whose bottom is a power; None for none."""
+    """The liquid of the last top-up, by R2, of a content whose bottom is a power, or of a limit; None for none."""
     stays = kept[0]
     marked = [liquid for liquid, amount in enumerate(content) if stays == 1 or amount % stays != 0]
     if stays > 1 and len(marked) > 1:

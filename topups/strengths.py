@@ -2,6 +2,7 @@
 
 from topups.basics import (
     MOST_LIQUIDS, MOST_TOP_UPS, check_fraction, check_kept, check_number, check_share, is_integer, lowest_terms,
+    powers_of,
 )
 from topups.contents import check_content
 from topups.errors import InvalidStrengths
@@ -111,10 +112,3 @@ class StrengthSearch:
 
     def starts(self, held):
         return [liquid for liquid, strength in enumerate(self.strengths) if strength == held]
-
-
-def powers_of(base, number):
-    powers = [1]
-    for _ in range(number):
-        powers.append(powers[-1] * base)
-    return powers
