@@ -7,6 +7,7 @@ from fractions import Fraction
 from math import gcd, lcm
 
 from topups.errors import InvalidContent, InvalidText, PotError
+from topups.live import Pot
 
 GREAT = 123456789012345678901234567890
 MOST_BOTTOM = 10 ** 6
@@ -22,8 +23,8 @@ def nested(depth):
 def no_lists():
     """Objects that are no list and no tuple."""
     return [
-        0, 1, -1, GREAT, -GREAT, True, False, "", "1", "1 2", "[1, 2]", "\n", None,
-        PotError("1"), InvalidContent("1 2"), InvalidText(1), {}, {"0": 1}, {"a": [1, 2], "b": (1, 2)},
+        0, 1, -1, GREAT, -GREAT, True, False, "", "1", "1 2", "[1, 2]", "\n", None, PotError("1"),
+        InvalidContent("1 2"), InvalidText(1), Pot(2, 0, (1, 2)), {}, {"0": 1}, {"a": [1, 2], "b": (1, 2)},
     ]
 
 
@@ -103,6 +104,40 @@ def wrong_shares_to_reach():
     """Objects that are no fraction from 0 to 1 with a bottom of at most 10 ** 6."""
     return wrong_shares() + [
         (1, MOST_BOTTOM + 1), (MOST_BOTTOM, MOST_BOTTOM + 1), (1, 2 * MOST_BOTTOM), (1, GREAT), (GREAT, GREAT + 1),
+    ]
+
+
+def wrong_cups():
+    """Objects that are no cup."""
+    return no_lists() + [
+        (), (1,), (1, 2, 3), [], [1, 2], [1, 1], (2, 2), (2, 4), (100, 100), (50, 100), (0, 1), (0, 0), (2, 1), (3, 2),
+        (1, 101), (100, 101), (101, 101), (1, GREAT), (GREAT, GREAT + 1), (-1, 2), (1, -2), (-1, -1), (-2, -1),
+        (True, 1), (1, True), (True, 2), (False, 1), ("1", 2), (1, "2"), (1, None), (None, 2), ((1, 2), 3), (1, (2,)),
+        ([1], 2), (1, {}), [(1, 2)], ((1, 2),), (1, PotError("2")),
+    ]
+
+
+def wrong_pots():
+    """Objects that are no list of pots."""
+    lists = [[[1, 2], content] for content in wrong_contents()] + [[content, [1, 2]] for content in wrong_contents()]
+    return no_lists() + lists + [
+        [], (), [[1]], [[1, 0]], [[1, 0]] * 9, [[1], [1, 0]], [[1, 0], [1]], [[1, 0], [1, 0], [1, 0, 0]],
+        ([1, 0], [0, 1]), [(1, 0), (0, 1)], [1, 0], [[[1, 0], [0, 1]]], [[1, 0]] * 1000, nested(19),
+    ]
+
+
+def wrong_deeds(pots):
+    """Objects that are no list of deeds with so many pots."""
+    deeds = [
+        (), (0, 1), (0, 1, (1, 2), 0), [0, 1, (1, 2)], (0, 0, (1, 2)), (1, 1, (1, 2)), (0, pots, (1, 2)),
+        (pots, 0, (1, 2)), (-1, 0, (1, 2)), (0, -1, (1, 2)), (0, GREAT, (1, 2)), (True, 0, (1, 2)), (0, True, (1, 2)),
+        (False, 1, (1, 2)),
+        (1, False, (1, 2)), ("0", 1, (1, 2)), (0, None, (1, 2)), ((0,), 1, (1, 2)), (0, 1, 1, 2), ((0, 1), (1, 2)),
+    ] + no_lists() + [(0, 1, cup) for cup in wrong_cups()]
+    lists = [[deed] for deed in deeds] + [[(0, 1, (1, 2)), deed] for deed in deeds]
+    return no_lists() + lists + [
+        (), (0, 1, (1, 2)), ((0, 1, (1, 2)),), [0, 1, (1, 2)], [[(0, 1, (1, 2))]], [(0, 1, (1, 2))] * 61,
+        [(0, 1, (1, 2))] * 800, nested(19),
     ]
 
 

@@ -4,6 +4,8 @@ import importlib
 import inspect
 import unittest
 
+from topups import errors, live
+
 INTERFACE = {
     "topups.contents": {
         "is_content": ["thing"], "bottom_of": ["content"], "share_of": ["content", "liquid"],
@@ -43,7 +45,21 @@ INTERFACE = {
         "content_index": ["content", "kept", "start", "number"],
         "count_between": ["count", "kept", "start", "number", "liquid", "low", "high"],
     },
+    "topups.cups": {
+        "to_and_fro": ["first", "second", "cup"], "cups_row": ["pots", "deeds"], "carried": ["cup"],
+        "fewest_cups": ["first", "second", "cup", "fraction"],
+    },
+    "topups.texts": {
+        "write_content": ["content"], "read_content": ["text"], "write_row": ["row"], "read_row": ["text"],
+        "write_history": ["history"], "read_history": ["text"],
+    },
+    "topups.session": {"session": ["rows"]},
 }
+METHODS = {
+    "__init__": ["count", "start", "kept"], "top_up": ["liquid"], "pour": ["row"], "keep": ["kept"], "undo": [],
+    "mark": [], "undo_to": ["index"], "twin": [], "histories": [], "strength": ["strengths"], "__len__": [],
+}
+PROPERTIES = ["liquids", "start", "kept", "content", "past"]
 
 
 class InterfaceTest(unittest.TestCase):
@@ -56,3 +72,22 @@ class InterfaceTest(unittest.TestCase):
                     self.assertTrue(inspect.isfunction(function))
                     self.assertEqual(function.__module__, place)
                     self.assertEqual(list(inspect.signature(function).parameters), arguments)
+
+    def test_pot(self):
+        self.assertTrue(inspect.isclass(live.Pot))
+        self.assertEqual((live.Pot.__module__, live.Pot.__bases__), ("topups.live", (object,)))
+        body = vars(live.Pot)
+        for name, arguments in METHODS.items():
+            with self.subTest(name=name):
+                self.assertTrue(inspect.isfunction(body[name]))
+                self.assertEqual(list(inspect.signature(body[name]).parameters), ["self", *arguments])
+        for name in PROPERTIES:
+            with self.subTest(name=name):
+                self.assertIsInstance(body[name], property)
+                self.assertTrue(hasattr(live.Pot(2, 0, (1, 2)), name))
+        self.assertNotIn("__eq__", body)
+
+    def test_errors_stand_in_their_file(self):
+        for name, error in vars(errors).items():
+            if inspect.isclass(error):
+                self.assertEqual(error.__module__, "topups.errors", name)

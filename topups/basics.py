@@ -40,10 +40,14 @@ def is_list_of_keeps(thing):
     return all(is_kept(kept) for kept in thing)
 
 
-def is_row(thing, liquids):
-    if type(thing) != list or len(thing) > MOST_TOP_UPS:
+def is_list_of_liquids(thing, liquids):
+    if type(thing) != list:
         return False
     return all(is_within(liquid, 0, liquids - 1) for liquid in thing)
+
+
+def is_row(thing, liquids):
+    return is_list_of_liquids(thing, liquids) and len(thing) <= MOST_TOP_UPS
 
 
 def check_fraction(fraction):

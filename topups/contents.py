@@ -45,6 +45,10 @@ def mixed_content(contents, weights):
     """The content of a pot into which so many parts of each content are poured."""
     check_contents(contents)
     check_weights(weights, len(contents))
+    return mixture_of(contents, weights)
+
+
+def mixture_of(contents, weights):
     common = 1
     for content in contents:
         common = lcm(common, sum(content))
