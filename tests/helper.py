@@ -8,6 +8,7 @@ from math import gcd, lcm
 
 from topups.errors import InvalidContent, InvalidText, PotError
 from topups.live import Pot
+from topups.topping import topped_by
 
 GREAT = 123456789012345678901234567890
 MOST_BOTTOM = 10 ** 6
@@ -210,6 +211,38 @@ def told_along(count, keeps):
     return {
         content: [(start, [liquid for liquid, _ in steps]) for start, steps in ways] for content, ways in told.items()
     }
+
+
+class Model:
+    """What a pot must tell, reckoned anew from its top-ups each time."""
+
+    def __init__(self, count, start, kept):
+        self.count, self.start, self.now = count, start, (kept, [])
+        self.before = []
+
+    def pour(self, row):
+        kept, past = self.now
+        self.change(kept, past + [(liquid, kept) for liquid in row])
+
+    def keep(self, kept):
+        self.change(kept, self.now[1])
+
+    def change(self, kept, past):
+        self.before.append(self.now)
+        self.now = (kept, past)
+
+    def undo_to(self, index):
+        while len(self.before) > index:
+            self.now = self.before.pop()
+
+    def twin(self):
+        other = Model(self.count, self.start, self.now[0])
+        other.now, other.before = self.now, list(self.before)
+        return other
+
+    def content(self):
+        past = self.now[1]
+        return topped_by(pure(self.count, self.start), [kept for _, kept in past], [liquid for liquid, _ in past])
 
 
 class PotTest(unittest.TestCase):

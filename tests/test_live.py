@@ -4,7 +4,7 @@ import copy
 import random
 
 from tests.helper import (
-    GREAT, PotTest, lists_in, pure, spoil, wrong_indices, wrong_keeps, wrong_liquids, wrong_numbers, wrong_rows,
+    GREAT, Model, PotTest, lists_in, pure, spoil, wrong_indices, wrong_keeps, wrong_liquids, wrong_numbers, wrong_rows,
     wrong_strengths,
 )
 from topups.errors import (
@@ -14,41 +14,9 @@ from topups.errors import (
 from topups.histories import all_histories, histories_along
 from topups.live import Pot
 from topups.strengths import strength_of
-from topups.topping import topped_by, topped_row
+from topups.topping import topped_row
 
 KEEPS = [(1, 2), (1, 3), (2, 3), (3, 4), (7, 10), (1, 100), (99, 100)]
-
-
-class Model:
-    """What a pot must tell, reckoned anew from its top-ups each time."""
-
-    def __init__(self, count, start, kept):
-        self.count, self.start, self.now = count, start, (kept, [])
-        self.before = []
-
-    def pour(self, row):
-        kept, past = self.now
-        self.change(kept, past + [(liquid, kept) for liquid in row])
-
-    def keep(self, kept):
-        self.change(kept, self.now[1])
-
-    def change(self, kept, past):
-        self.before.append(self.now)
-        self.now = (kept, past)
-
-    def undo_to(self, index):
-        while len(self.before) > index:
-            self.now = self.before.pop()
-
-    def twin(self):
-        other = Model(self.count, self.start, self.now[0])
-        other.now, other.before = self.now, list(self.before)
-        return other
-
-    def content(self):
-        past = self.now[1]
-        return topped_by(pure(self.count, self.start), [kept for _, kept in past], [liquid for liquid, _ in past])
 
 
 def told_or_error(function, *args):

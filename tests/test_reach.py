@@ -6,7 +6,7 @@ from fractions import Fraction
 from math import gcd
 
 from tests.helper import (
-    GREAT, MOST_BOTTOM, PotTest, no_lists, pair, pure, wrong_contents, wrong_keeps, wrong_liquids, wrong_numbers,
+    GREAT, MOST_BOTTOM, PotTest, no_lists, pair, wrong_contents, wrong_keeps, wrong_liquids, wrong_numbers,
     wrong_shares_to_reach,
 )
 from topups.errors import InvalidContent, InvalidFraction, InvalidKept, InvalidLiquid, InvalidNumber

@@ -4,8 +4,7 @@ import itertools
 import random
 import re
 
-from tests.helper import GREAT, PotTest, pure
-from tests.test_live import Model
+from tests.helper import GREAT, Model, PotTest, pure
 from topups.contents import pure_content, share_of
 from topups.errors import PotError
 from topups.histories import history_of
