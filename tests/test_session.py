@@ -13,12 +13,11 @@ from topups.strengths import strength_of
 from topups.texts import read_row, write_content, write_history, write_row
 from topups.topping import topped_row
 
-NUMBER = "(?:0|[1-9][0-9]{0,29})"
 INTEGER = "(?:0|-?[1-9][0-9]{0,29})"
 SHAPES = {
-    "pot": f"pot {NUMBER} {NUMBER} {NUMBER} {NUMBER}", "top": f"top {NUMBER}", "pour": "pour( [^ ]+)+",
-    "keep": f"keep {NUMBER} {NUMBER}", "undo": "undo", "back": f"back {NUMBER}", "content": "content",
-    "share": f"share {NUMBER}", "past": "past", "history": "history", "strength": f"strength( {INTEGER})+",
+    "pot": f"pot {INTEGER} {INTEGER} {INTEGER} {INTEGER}", "top": f"top {INTEGER}", "pour": "pour( [^ ]+)+",
+    "keep": f"keep {INTEGER} {INTEGER}", "undo": "undo", "back": f"back {INTEGER}", "content": "content",
+    "share": f"share {INTEGER}", "past": "past", "history": "history", "strength": f"strength( {INTEGER})+",
 }
 WORDS = [
     "pot", "top", "pour", "keep", "undo", "back", "content", "share", "past", "history", "strength", "0", "1", "2", "3",
@@ -73,7 +72,7 @@ class Reference:
         return self.back([len(self.model.before) - 1])
 
     def back(self, words):
-        if int(words[0]) > len(self.model.before):
+        if not 0 <= int(words[0]) <= len(self.model.before):
             return "InvalidIndex"
         self.model.undo_to(int(words[0]))
         return "ok"
@@ -97,14 +96,14 @@ class Reference:
 
 def some_line(chance, count):
     """A line that is mostly right, for a pot of so many liquids."""
-    liquid = chance.randint(0, count)
+    liquid = chance.randint(-1, count)
     lines = [
-        f"top {liquid}", f"top {min(liquid, count - 1)}", f"top {chance.randrange(count)}", "undo",
+        f"top {liquid}", f"top {max(0, min(liquid, count - 1))}", f"top {chance.randrange(count)}", "undo",
         "pour " + (" ".join(str(chance.randrange(count)) for _ in range(chance.randrange(4))) or "-"),
-        f"pour {liquid} {chance.randint(0, 9)}", f"keep {chance.randint(0, 4)} {chance.randint(1, 5)}", "keep 1 2",
-        f"back {chance.randrange(9)}", "content", f"share {liquid}", "past", "history",
+        f"pour {liquid} {chance.randint(0, 9)}", f"keep {chance.randint(-1, 4)} {chance.randint(-1, 5)}", "keep 1 2",
+        f"back {chance.randint(-1, 8)}", "content", f"share {liquid}", "past", "history",
         "strength " + " ".join(str(chance.randint(-9, 9)) for _ in range(count)),
-        f"pot {chance.randint(0, 9)} {chance.randint(0, 3)} {chance.randint(0, 3)} {chance.randint(1, 4)}",
+        f"pot {chance.randint(-1, 9)} {chance.randint(-1, 3)} {chance.randint(-1, 3)} {chance.randint(-1, 4)}",
     ]
     return chance.choice(lines)
 
@@ -156,26 +155,27 @@ class SessionTest(PotTest):
             ("", "?"), (" ", "?"), ("content ", "?"), (" content", "?"), ("top  1", "?"), ("top 1 ", "?"),
             ("pour 1 ", "?"), ("pour  1", "?"), ("pour ", "?"), ("pour", "?"), ("pour - ", "?"), ("strength", "?"),
             ("strength ", "?"), ("strength 1 2  3", "?"), ("top", "?"), ("top 1 1", "?"), ("top x", "?"),
-            ("top -1", "?"), ("top +1", "?"), ("top 01", "?"), ("top -", "?"), ("top 3", "InvalidLiquid"),
+            ("top -1", "InvalidLiquid"), ("top +1", "?"), ("top 01", "?"), ("top -", "?"), ("top 3", "InvalidLiquid"),
             ("top " + "9" * 30, "InvalidLiquid"), ("top " + "9" * 31, "?"), ("pour 3", "InvalidRow"),
             ("pour 0 7", "InvalidRow"), ("pour 8", "InvalidText"), ("pour 0 8", "InvalidText"),
             ("pour - 1", "InvalidText"), ("pour 1 -", "InvalidText"), ("pour x", "InvalidText"),
             ("pour -1", "InvalidText"), ("pour 00", "InvalidText"), ("pour" + " 1" * 61, "InvalidText"),
             ("pour" + " 3" * 60, "InvalidRow"), ("keep", "?"), ("keep 1", "?"), ("keep 1 2 3", "?"), ("keep 1 x", "?"),
-            ("keep -1 2", "?"), ("keep 2 4", "InvalidKept"), ("keep 0 1", "InvalidKept"), ("keep 1 1", "InvalidKept"),
-            ("keep 1 101", "InvalidKept"), ("undo 1", "?"), ("undo ", "?"), ("back", "?"), ("back -1", "?"),
-            ("back 1 1", "?"), ("back 9", "InvalidIndex"), ("back " + "9" * 30, "InvalidIndex"), ("content 1", "?"),
-            ("share", "?"), ("share 1 2", "?"), ("share -1", "?"), ("share 3", "InvalidLiquid"), ("past 1", "?"),
-            ("history 1", "?"), ("strength 1 2", "InvalidStrengths"), ("strength 1", "InvalidStrengths"),
+            ("keep -1 2", "InvalidKept"), ("keep 2 4", "InvalidKept"), ("keep 0 1", "InvalidKept"),
+            ("keep 1 1", "InvalidKept"), ("keep 1 101", "InvalidKept"), ("undo 1", "?"), ("undo ", "?"), ("back", "?"),
+            ("back -1", "InvalidIndex"), ("back 1 1", "?"), ("back 9", "InvalidIndex"),
+            ("back " + "9" * 30, "InvalidIndex"), ("content 1", "?"), ("share", "?"), ("share 1 2", "?"),
+            ("share -1", "InvalidLiquid"), ("share 3", "InvalidLiquid"), ("past 1", "?"), ("history 1", "?"),
+            ("strength 1 2", "InvalidStrengths"), ("strength 1", "InvalidStrengths"),
             ("strength 1 2 3 4", "InvalidStrengths"), ("strength 1 2 x", "?"), ("strength 1 x", "?"),
             ("strength 1 2 -0", "?"), ("strength 1 2 +3", "?"), ("strength 1 2 -", "?"), ("strength 1 2 03", "?"),
             ("strength 1 2 --3", "?"), ("strength 1 2 " + "9" * 31, "?"), ("strength 1 2 -" + "9" * 31, "?"),
             ("strength" + " 1" * 9, "InvalidStrengths"), ("pot", "?"), ("pot 2 0 1", "?"), ("pot 2 0 1 2 3", "?"),
-            ("pot 2 0 1 x", "?"), ("pot 2 0 1 -2", "?"), ("pot 2 0 1 2 ", "?"), ("pot 0 0 1 2", "InvalidNumber"),
-            ("pot 9 9 2 4", "InvalidNumber"), ("pot 2 2 2 4", "InvalidLiquid"), ("pot 2 1 2 4", "InvalidKept"),
-            ("pot 2 1 1 " + "9" * 30, "InvalidKept"), ("pot 2 1 1 " + "9" * 31, "?"), ("Top 1", "?"), ("mark", "?"),
-            ("twin", "?"), ("histories", "?"), ("top_up 1", "?"), ("undo_to 1", "?"), ("1", "?"), ("ok", "?"),
-            ("?", "?"), ("-", "?"),
+            ("pot 2 0 1 x", "?"), ("pot 2 0 1 -2", "InvalidKept"), ("pot 2 0 1 2 ", "?"),
+            ("pot 0 0 1 2", "InvalidNumber"), ("pot 9 9 2 4", "InvalidNumber"), ("pot 2 2 2 4", "InvalidLiquid"),
+            ("pot 2 1 2 4", "InvalidKept"), ("pot 2 1 1 " + "9" * 30, "InvalidKept"), ("pot 2 1 1 " + "9" * 31, "?"),
+            ("Top 1", "?"), ("mark", "?"), ("twin", "?"), ("histories", "?"), ("top_up 1", "?"), ("undo_to 1", "?"),
+            ("1", "?"), ("ok", "?"), ("?", "?"), ("-", "?"),
         ]:
             with self.subTest(line=line):
                 told = ["content", "past", "history", "strength 1 2 3", "back 2"]
@@ -184,6 +184,64 @@ class SessionTest(PotTest):
                 found = session("\n".join(start + [line] + told)).split("\n")
                 self.assert_same(found, before[:4] + [answer] + before[4:])
                 self.check(start + [line] + told)
+
+    def test_integers_below_0_are_passed_on(self):
+        self.check_told([
+            ("pot 3 0 2 3", "ok"), ("top -1", "InvalidLiquid"), ("keep -1 2", "InvalidKept"),
+            ("back -1", "InvalidIndex"), ("share -1", "InvalidLiquid"), ("pot -1 0 1 2", "InvalidNumber"),
+            ("pot 3 -1 1 2", "InvalidLiquid"), ("strength 1 0 -1", "1/1"), ("content", "1 0 0"),
+            ("keep -89 -60", "InvalidKept"), ("keep 79 -8", "InvalidKept"), ("keep 1 -2", "InvalidKept"),
+            ("keep -1 -2", "InvalidKept"), ("pot 3 0 2 -3", "InvalidKept"), ("pot 3 0 -2 3", "InvalidKept"),
+            ("pot 3 0 -2 -3", "InvalidKept"), ("pot -3 -1 -2 -3", "InvalidNumber"), ("pot 3 -1 -2 -3", "InvalidLiquid"),
+            ("top 1", "ok"), ("content", "2 1 0"), ("back -2", "InvalidIndex"), ("undo", "ok"),
+            ("undo", "NothingToUndo"), ("back -1", "InvalidIndex"), ("past", "-"), ("pour -1", "InvalidText"),
+            ("pour 0 -1", "InvalidText"),
+        ])
+
+    def test_before_the_first_pot_integers_below_0_are_passed_on_by_pot_lines_alone(self):
+        self.check_told([
+            ("top -1", "?"), ("keep -1 2", "?"), ("back -1", "?"), ("share -1", "?"), ("strength -1", "?"),
+            ("pour -1", "?"), ("pot -3 0 2 3", "InvalidNumber"), ("top -1", "?"), ("pot 3 -1 2 3", "InvalidLiquid"),
+            ("pot 3 0 -2 3", "InvalidKept"), ("pot 3 0 2 -3", "InvalidKept"), ("back -1", "?"), ("pot 3 0 2 3", "ok"),
+            ("top -1", "InvalidLiquid"), ("back -1", "InvalidIndex"),
+        ])
+
+    def test_words_for_each_place_of_an_integer(self):
+        """The place of the word is told by `{}`; behind it stands the error for an integer that is too low."""
+        places = [
+            ("top {}", "InvalidLiquid"), ("share {}", "InvalidLiquid"), ("back {}", "InvalidIndex"),
+            ("keep {} 2", "InvalidKept"), ("keep 1 {}", "InvalidKept"), ("pot {} 0 1 2", "InvalidNumber"),
+            ("pot 3 {} 1 2", "InvalidLiquid"), ("pot 3 0 {} 2", "InvalidKept"), ("pot 3 0 1 {}", "InvalidKept"),
+            ("strength {}", "InvalidStrengths"), ("strength 1 2 3 {}", "InvalidStrengths"),
+        ]
+        low = ["-1", "-2", "-3", "-10", "-" + "1" * 30, "-" + "9" * 30]
+        # A blank makes two words, of which one is no integer.
+        wrong = ["-0", "--1", "-", "--", "-01", "-00", "+1", "+", "- 1", "1-", "-1-", "-x", "x", "-1.0", "-1 ",
+                 "-" + "1" * 31, "-" + "9" * 31, "1" * 31, "-" + "0" * 30]
+        told = ["content", "past", "history", "strength 1 2 3", "undo", "content"]
+        for place, error in places:
+            for word, answer in [(word, error) for word in low] + [(word, "?") for word in wrong]:
+                line = place.format(word)
+                with self.subTest(line=line):
+                    start = ["pot 3 2 2 3", "pour 0 1"]
+                    before = session("\n".join(start + told)).split("\n")
+                    found = session("\n".join(start + [line] + told)).split("\n")
+                    self.assert_same(found, before[:2] + [answer] + before[2:])
+                    self.check(start + [line] + told)
+
+    def test_lines_without_integers_take_none(self):
+        for name in ("undo", "content", "past", "history"):
+            for word in ("-1", "-0", "0", "1", "-"):
+                self.check_told([("pot 3 0 2 3", "ok"), (f"{name} {word}", "?"), ("content", "1 0 0")])
+        for line in ("top -1 -1", "top", "keep -1", "keep -1 -2 -3", "back -1 0", "share 0 -1", "pot -1 0 1",
+                     "pot -1 0 1 2 3"):
+            self.check_told([("pot 3 0 2 3", "ok"), (line, "?"), ("content", "1 0 0")])
+
+    def test_all_pot_lines_of_few_words(self):
+        words = ("0", "1", "2", "3", "-1", "-2", "-0", "x")
+        lines = ["pot " + " ".join(parts) for parts in itertools.product(words, repeat=4)]
+        for at in range(0, len(lines), 45):
+            self.check([line for pot in lines[at:at + 45] for line in (pot, "content")])
 
     def test_before_the_first_pot(self):
         lines = ["top 1", "pour 1", "pour x", "pour 8", "keep 1 2", "keep 2 4", "undo", "back 0", "content", "share 0",

@@ -36,10 +36,10 @@ def behind_line(pot, words):
 
 
 def behind_pot_line(pot, words):
-    numbers = [number_in(word) for word in words]
-    if None in numbers or len(numbers) != 4:
+    integers = [integer_in(word) for word in words]
+    if None in integers or len(integers) != 4:
         return pot, NOT_KNOWN
-    count, start, stays, whole = numbers
+    count, start, stays, whole = integers
     return Pot(count, start, (stays, whole)), DONE
 
 
@@ -47,21 +47,15 @@ def answer_to(pot, name, words):
     if len(words) > 0 and name == "pour":
         pot.pour(read_row(" ".join(words)))
         return DONE
-    if len(words) > 0 and name == "strength":
-        return answer_of_strength(pot, [integer_in(word) for word in words])
-    numbers = [number_in(word) for word in words]
-    if None in numbers:
+    integers = [integer_in(word) for word in words]
+    if None in integers:
         return NOT_KNOWN
-    return answer_by_numbers(pot, [name] + numbers)
+    if len(integers) > 0 and name == "strength":
+        return fraction_text(pot.strength(integers))
+    return answer_by_integers(pot, [name] + integers)
 
 
-def answer_of_strength(pot, strengths):
-    if None in strengths:
-        return NOT_KNOWN
-    return fraction_text(pot.strength(strengths))
-
-
-def answer_by_numbers(pot, parts):
+def answer_by_integers(pot, parts):
     match parts:
         case ["top", liquid]:
             pot.top_up(liquid)
